@@ -1,0 +1,1 @@
+"""Sums of reciprocals over chains, and what follows from two products."""

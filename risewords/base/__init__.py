@@ -1,0 +1,1 @@
+"""Exact numbers and tables of integers."""

@@ -1,0 +1,1 @@
+"""Rows and their words."""
