@@ -13,11 +13,8 @@ LONG = 10 ** 59  # sixty digits
 LONGER = 10 ** 60  # sixty-one digits
 LONGEST = 10 ** 99  # a hundred digits
 NO_INTEGERS = STRANGE + ((), (1, 2), {}, (2,))
-
-
-def different(one, other):
-    """Whether two values differ, True and 1 being unlike."""
-    return one != other or repr(one) != repr(other)
+NO_ROWS = STRANGE + (1, 0, "yx", [1, 2], [], {}, (41,), (1,) * 41, (40, 1), (20, 21), (2, 0), (2, -1), (2, True),
+                     (LONG,), (LONGER,), (LONGEST, 1), (-1, 41), (1.0,), ((2, 1),), ((),), {(2, 1): 1}, (2, "1"))
 
 
 class Case(unittest.TestCase):

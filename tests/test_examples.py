@@ -10,6 +10,10 @@ FOLDER = Path(__file__).with_name("examples")
 MODULES = {
     "ratios": ("base.ratios",),
     "rows": ("word.rows",),
+    "tables": ("base.tables",),
+    "mixes": ("word.mixes",),
+    "products": ("word.mixes", "weave.products"),
+    "lyndon": ("word.mixes", "weave.lyndon"),
 }
 
 

@@ -7,13 +7,11 @@ from risewords.errors import InvalidNumber, InvalidOperation, InvalidRow, TooMan
 from risewords.word import rows
 from risewords.word.rows import (dual_row, firm_rows, is_firm, is_row, joinings, row_count, row_of, rows_of,
                                  turned_row, weight_of, word_of)
-from support import LONG, LONGER, LONGEST, NO_INTEGERS, STRANGE, Case
+from support import LONG, LONGER, NO_INTEGERS, NO_ROWS, Case
 
 SMALL = [row for weight in range(9) for row in rows_of(weight)]
 FIRM = [row for row in SMALL if row == () or row[0] > 1]
 HEAVY = [(40,), (1,) * 40, (20, 20), (2,) * 20, (39, 1), (1, 39), (3, 7, 30), (10, 10, 10, 10)]
-NO_ROWS = STRANGE + (1, 0, "yx", [1, 2], [], {}, (41,), (1,) * 41, (40, 1), (20, 21), (2, 0), (2, -1), (2, True),
-                     (LONG,), (LONGER,), (LONGEST, 1), (-1, 41), (1.0,), ((2, 1),), ((),), {(2, 1): 1}, (2, "1"))
 
 
 def compositions(weight):
