@@ -4,6 +4,7 @@ import random
 from fractions import Fraction
 from itertools import islice
 from math import factorial
+from time import perf_counter
 
 from risewords.errors import InvalidMix, InvalidNumber, InvalidRow, TooMany, UnknownName
 from risewords.weave import lyndon
@@ -62,7 +63,7 @@ class Lyndon(Case):
         self.each(is_lyndon, NO_ROWS + ((41,), (40, 1), [3], (True,), (3, True), (10 ** 4000,), Mix.of((3,))), False)
 
     def test_listed_rows(self):
-        for weight in range(1, 13):
+        for weight in range(1, 15):
             listed = list(lyndon_rows(weight))
             self.same(listed, [row for row in rows_of(weight) if lyndon_by_rule(row)])
             self.same(listed, sorted(listed))
@@ -71,9 +72,15 @@ class Lyndon(Case):
     def test_weights_14_and_15(self):
         self.same([len(list(lyndon_rows(14))), len(list(lyndon_rows(13)))], [1161, 630])
         self.same(list(islice(lyndon_rows(14), 1)), [(2,) + (1,) * 12])
-        for value in NO_INTEGERS + (0, -1, 15, LONG, LONGER):
+        for value in NO_INTEGERS + (0, -1, 15, True, LONG, LONGER):
             waiting = lyndon_rows(value)
             self.fails(InvalidNumber(value), next, waiting)
+
+    def test_listing_takes_little_time(self):
+        start = perf_counter()
+        for _ in range(20):
+            list(lyndon_rows(14))
+        self.assertLess(perf_counter() - start, 1)
 
     def test_counts(self):
         self.same([lyndon_count(weight) for weight in range(1, 15)],

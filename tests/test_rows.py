@@ -2,6 +2,7 @@
 
 from itertools import islice
 from math import comb
+from time import perf_counter
 
 from risewords.errors import InvalidNumber, InvalidOperation, InvalidRow, TooMany
 from risewords.word import rows
@@ -177,12 +178,33 @@ class Listed(Case):
                 self.same(len(listed), 2 ** (weight - 2))
         self.same([list(firm_rows(0)), list(firm_rows(1))], [[()], []])
 
-    def test_the_greatest_weight(self):
-        self.same([len(list(rows_of(16))), len(list(firm_rows(16)))], [2 ** 15, 2 ** 14])
+    def test_the_least_weights(self):
+        self.same([list(rows_of(weight)) for weight in (0, 1, 2)], [[()], [(1,)], [(1, 1), (2,)]])
+        self.same([list(firm_rows(weight)) for weight in (0, 1, 2, 3)], [[()], [], [(2,)], [(2, 1), (3,)]])
+
+    def test_the_greatest_weights(self):
+        for weight in (13, 14, 15, 16):
+            listed, firm = list(rows_of(weight)), list(firm_rows(weight))
+            self.same([len(listed), len(firm)], [2 ** (weight - 1), 2 ** (weight - 2)])
+            # Ascending rows of the weight, as many as there are: so each is there once.
+            self.assertTrue(all(one < other for one, other in zip(listed, listed[1:])))
+            self.assertTrue(all(type(row) is tuple and sum(row) == weight and min(row) > 0 for row in listed))
+            self.assertEqual(firm, [row for row in listed if row[0] > 1])
+            self.same([listed[0], listed[1], listed[-2], listed[-1]],
+                      [(1,) * weight, (1,) * (weight - 2) + (2,), (weight - 1, 1), (weight,)])
+            self.same([firm[0], firm[1], firm[-2], firm[-1]],
+                      [(2,) + (1,) * (weight - 2), (2,) + (1,) * (weight - 4) + (2,), (weight - 1, 1), (weight,)])
+
+    def test_listing_takes_little_time(self):
+        for call in (rows_of, firm_rows):
+            start = perf_counter()
+            for _ in range(20):
+                list(call(16))
+            self.assertLess(perf_counter() - start, 1)
 
     def test_wrong_weights_are_refused_with_the_first_row(self):
         for call in (rows_of, firm_rows):
-            for value in NO_INTEGERS + (-1, 17, LONG, LONGER):
+            for value in NO_INTEGERS + (17, -1, True, LONG, LONGER):
                 waiting = call(value)
                 self.fails(InvalidNumber(value), next, waiting)
 

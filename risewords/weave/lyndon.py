@@ -24,9 +24,27 @@ def is_lyndon(value):
 def lyndon_rows(weight):
     """Yields all Lyndon rows of a weight, ascending."""
     need_between(weight, 1, MAX_LISTED)
-    for row in rows_of(weight):
-        if is_lyndon(row):
-            yield row
+    yield from _lyndon_list(weight)
+
+
+def _lyndon_list(weight):
+    """The list of all Lyndon rows of a weight, ascending.
+
+    A greater entry begins a lesser word. So the beginnings of Lyndon rows are those rows that repeat
+    their first Lyndon row, as often as it goes, and then break off or put a lesser entry: with
+    this one the whole row is the first Lyndon row.
+    """
+    found = []
+    waiting = [((first,), 1, weight - first) for first in range(weight, 0, -1)]
+    while waiting:
+        row, period, left = waiting.pop()
+        size = len(row)
+        if left == 0 and period == size:
+            found.append(row)
+        most = row[size - period]
+        for entry in range(min(most, left), 0, -1):
+            waiting.append(((*row, entry), period if entry == most else size + 1, left - entry))
+    return found
 
 
 def lyndon_count(weight):

@@ -106,23 +106,48 @@ def _joined_lists(row):
 def rows_of(weight):
     """Yields all rows of a weight, ascending."""
     need_between(weight, 0, MOST_LISTED)
-    if weight == 0:
-        yield ()
-    for first in range(1, weight + 1):
-        left = weight - first
-        for rest in rows_of(left):
-            yield (first, *rest)
+    yield from _row_list(weight)
 
 
 def firm_rows(weight):
     """Yields all firm rows of a weight, ascending."""
     need_between(weight, 0, MOST_LISTED)
-    if weight == 0:
-        yield ()
-    for first in range(2, weight + 1):
-        left = weight - first
-        for rest in rows_of(left):
-            yield (first, *rest)
+    yield from _firm_list(weight)
+
+
+def _row_list(weight):
+    """The list of all rows of a weight, ascending."""
+    if weight < 2:
+        return [(1,) * weight]
+    half = weight // 2
+    return _spliced(_row_list(half), _row_list(weight - half))
+
+
+def _firm_list(weight):
+    """The list of all firm rows of a weight, ascending."""
+    if weight < 4:
+        return [row for row in _row_list(weight) if row == () or row[0] > 1]
+    # The first half has a weight of at least 2, so it alone tells whether the row is firm.
+    half = weight // 2
+    return _spliced(_firm_list(half), _row_list(weight - half))
+
+
+def _spliced(heads, tails):
+    """All rows made of a head and a tail, side by side or with the entries that meet added up.
+
+    They ascend if heads and tails do: a row whose entry ends behind the head is less than one
+    whose entry goes on.
+    """
+    grown = {}
+    found = []
+    for head in heads:
+        last = head[-1]
+        if last not in grown:
+            grown[last] = [(last + tail[0], *tail[1:]) for tail in tails]
+        found.extend([head + tail for tail in tails])
+        front = head[:-1]
+        found.extend([front + tail for tail in grown[last]])
+    return found
 
 
 def row_count(weight, length, *, firm=False):
