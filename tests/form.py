@@ -9,7 +9,8 @@ import re
 import warnings
 
 LIBRARY = {"math": ("gcd", "lcm", "isqrt", "comb", "perm", "factorial"),
-           "heapq": ("heappush", "heappop", "heapify", "heapreplace", "heappushpop")}
+           "heapq": ("heappush", "heappop", "heapify", "heapreplace", "heappushpop"),
+           "itertools": ("chain", "accumulate", "pairwise", "islice", "zip_longest")}
 BUILTINS = """len range enumerate zip min max sum abs sorted reversed int str bool list tuple dict isinstance ord repr
 any all divmod iter property classmethod staticmethod super NotImplemented Exception ValueError TypeError KeyError
 IndexError LookupError ZeroDivisionError ArithmeticError OverflowError RuntimeError NotImplementedError""".split()
@@ -179,7 +180,7 @@ class Package:
             if isinstance(called, ast.Name):
                 if called.id in self.generators and not self.at_once(file, node):
                     self.say(file, node, f"L23 {called.id} is not iterated at once")
-                if called.id in VIEWS and not self.at_once(file, node):
+                if (called.id in VIEWS or file.imports.get(called.id) == "itertools") and not self.at_once(file, node):
                     self.say(file, node, f"L23 {called.id}(..)")
             if isinstance(called, ast.Attribute) and called.attr in ("items", "keys", "values"):
                 if not self.at_once(file, node):
@@ -206,14 +207,22 @@ class Package:
                 self.say(file, file.parents[node], f"L7, L24 {type(node).__name__}")
             if isinstance(node, ast.Constant):
                 self.constant(file, node)
-            if isinstance(node, ast.BinOp) and isinstance(node.op, ast.Pow):
-                if not (isinstance(node.right, ast.Constant) and 0 <= node.right.value <= 64):
-                    self.say(file, node, "L27 exponent")
+            if isinstance(node, ast.BinOp) and isinstance(node.op, ast.Pow) and not self.is_short(node.right):
+                self.say(file, node, "L27 exponent")
             if isinstance(node, ast.Compare) and any(isinstance(part, (ast.Is, ast.IsNot)) for part in node.ops):
                 if not all(isinstance(part, ast.Constant) for part in node.comparators):
                     self.say(file, node, "L20 is")
         if re.search(r"_wall|_WallAttr|dataclass|overload|contextmanager", file.text):
             self.say(file, None, "L12, L17 a word that is barred")
+
+    def is_short(self, node):
+        """L27: a literal exponent, or the remainder of a plain integer by a literal."""
+        if isinstance(node, ast.Constant):
+            return 0 <= node.value <= 64
+        if not (isinstance(node, ast.BinOp) and isinstance(node.op, ast.Mod) and isinstance(node.left, ast.Call)):
+            return False
+        plain = getattr(node.left.func, "id", "") in ("int", "len")
+        return plain and isinstance(node.right, ast.Constant) and 1 <= node.right.value <= 65
 
     def constant(self, file, node):
         value = node.value

@@ -14,6 +14,10 @@ MODULES = {
     "mixes": ("word.mixes",),
     "products": ("word.mixes", "weave.products"),
     "lyndon": ("word.mixes", "weave.lyndon"),
+    "leading": ("weave.leading",),
+    "sums": ("cut.sums",),
+    "chains": ("cut.chains",),
+    "turning": ("cut.turning",),
 }
 
 

@@ -39,11 +39,19 @@ class Form(unittest.TestCase):
     def test_the_search_finds_faults(self):
         for text in ("import os\n", "A = B = 1\n", "A = len('a')\n", "def f(len):\n    '''F.'''\n    return len\n",
                      "def f():\n    '''F.'''\n    return 1 / 2\n", "def f():\n    '''F.'''\n    return {1, 2}\n",
-                     "def f():\n    '''F.'''\n    return 2 ** f()\n", "def f():\n    '''F.'''\n    yield 1\n\n\n"
+                     "def f():\n    '''F.'''\n    return 2 ** f()\n",
+                     "def f(a):\n    '''F.'''\n    return 2 ** (a % 65)\n",
+                     "def f(a):\n    '''F.'''\n    return 2 ** (int(a) % 66)\n",
+                     "from itertools import accumulate\n\n\ndef f(a):\n    '''F.'''\n    return accumulate(a)\n",
+                     "from itertools import product\n\n\ndef f(a):\n    '''F.'''\n    return list(product(a))\n",
+                     "def f():\n    '''F.'''\n    yield 1\n\n\n"
                      "def g():\n    '''G.'''\n    return f()\n", "def f(a):\n    '''F.'''\n    return a.encode()\n",
                      "def f(a):\n    '''F.'''\n    return a is f\n", "A = 0.5\n", "A = '%'\n", "A = 1\nA = 2\n",
                      "def f():\n    '''F.'''\n    return open('a')\n", "from math import floor\n",
                      "def f(a):\n    '''F.'''\n    for b in a:\n        a.append(b)\n", "print('a')\n",
                      "def f(a):\n    '''F.'''\n    try:\n        return a[0]\n    except KeyError:\n        return 1\n"):
             self.assertNotEqual(faults_of(text), [], text)
-        self.assertEqual(faults_of("def f(a):\n    '''F.'''\n    return [b for b in range(a)]\n"), [])
+        for text in ("def f(a):\n    '''F.'''\n    return [b for b in range(a)]\n",
+                     "def f(a):\n    '''F.'''\n    return 2 ** (int(a) % 65)\n",
+                     "from itertools import accumulate\n\n\ndef f(a):\n    '''F.'''\n    return list(accumulate(a))\n"):
+            self.assertEqual(faults_of(text), [], text)

@@ -1,0 +1,1 @@
+"""Sums over falling chains of integers."""
