@@ -18,6 +18,10 @@ MODULES = {
     "sums": ("cut.sums",),
     "chains": ("cut.chains",),
     "turning": ("cut.turning",),
+    "residues": ("prime.residues",),
+    "polynomials": ("whole.polynomials",),
+    "relations": ("word.mixes", "follow.relations"),
+    "families": ("follow.families",),
 }
 
 

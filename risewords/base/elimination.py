@@ -1,6 +1,6 @@
 """Elimination in rows of integers, without fractions. Nothing that is passed is checked here."""
 
-from risewords.base.exact import shared_divisor
+from risewords.base.exact import reduced, shared_divisor
 
 
 def eliminated(rows):
@@ -65,6 +65,19 @@ def kernel_rows(rows):
                 row[column] = -solved[at][free]
             found.append(primitive(row[::-1]))
     return tuple(found)
+
+
+def making_ratios(rows, numbers):
+    """The tuple of ratios with which the rows, each times its own, add up to the numbers, or None."""
+    many = len(rows)
+    columns = [[row[at] for row in rows] + [number] for at, number in enumerate(numbers)]
+    solved, leads = eliminated(columns)
+    if many in leads:
+        return None
+    ratios = [(0, 1)] * many
+    for row, lead in zip(solved, leads):
+        ratios[lead] = reduced(row[many], row[lead])
+    return tuple(ratios)
 
 
 def product_sum(one, other):

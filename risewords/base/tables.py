@@ -1,7 +1,7 @@
 """Tables of integers: rank, kernel, and what is a sum of multiples of their rows."""
 
-from risewords.base.elimination import eliminated, kernel_rows, product_sum
-from risewords.base.exact import is_exact, is_whole, reduced, shared_bottom
+from risewords.base.elimination import eliminated, kernel_rows, making_ratios, product_sum
+from risewords.base.exact import is_exact, is_whole, shared_bottom
 from risewords.base.ratios import is_integer
 from risewords.errors import InvalidOperation, InvalidTable
 
@@ -52,24 +52,11 @@ def _need_numbers(table, numbers):
 def span_paper(table, numbers):
     """A paper about a row of integers: ratios that make it of the table's rows, or a test."""
     _need_numbers(table, numbers)
-    ratios = _making_ratios(table, numbers)
+    ratios = making_ratios(table, numbers)
     if ratios is not None:
         return ("numbers", ratios)
     tests = [row for row in kernel_rows(table) if product_sum(row, numbers) != 0]
     return ("test", tests[0])
-
-
-def _making_ratios(table, numbers):
-    """Ratios with which the rows of the table add up to the numbers, or None."""
-    many = len(table)
-    columns = [[row[at] for row in table] + [number] for at, number in enumerate(numbers)]
-    solved, leads = eliminated(columns)
-    if many in leads:
-        return None
-    ratios = [(0, 1)] * many
-    for row, lead in zip(solved, leads):
-        ratios[lead] = reduced(row[many], row[lead])
-    return tuple(ratios)
 
 
 def is_span_paper(table, numbers, value):

@@ -1,0 +1,1 @@
+"""What follows from two products."""

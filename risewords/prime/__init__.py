@@ -1,0 +1,1 @@
+"""Sums modulo primes."""

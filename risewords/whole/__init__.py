@@ -1,0 +1,1 @@
+"""Mixes as polynomials in the row (1)."""
