@@ -77,10 +77,8 @@ def bar_rows(weight, *, kind="all"):
 
 def _tests(weight, table):
     """The echelon of the tests for the relations of a weight."""
-    width = len(list(firm_rows(weight)))
-    if width == 0:
-        return ()
-    return kernel_rows(table or [[0] * width])
+    # Where there are no relations, a row of zeros asks for nothing, too.
+    return kernel_rows(table or [[0] * len(list(firm_rows(weight)))])
 
 
 def left_count(weight, *, kind="all"):
