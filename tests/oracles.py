@@ -49,3 +49,33 @@ def led_on(mix, rule):
             total[made] = total.get(made, 0) + Fraction(*ratio) * number
     return mix_of(total)
 
+
+
+def solved(rows):
+    """The rows, as fractions, so that each leads with 1 where all others have 0, and the places of these leads."""
+    left, leads = [[Fraction(entry) for entry in row] for row in rows], []
+    for place in range(len(left[0]) if left else 0):
+        done = len(leads)
+        first = next((at for at in range(done, len(left)) if left[at][place]), None)
+        if first is not None:
+            left[done], left[first] = left[first], left[done]
+            left[done] = [entry / left[done][place] for entry in left[done]]
+            for at, row in enumerate(left):
+                if at != done and row[place]:
+                    left[at] = [entry - row[place] * more for entry, more in zip(row, left[done])]
+            leads.append(place)
+    return left[:len(leads)], leads
+
+
+def rank_of(rows):
+    """The number of rows that do not hang on one another."""
+    return len(solved(rows)[1])
+
+
+def cleared(row, rows):
+    """A row less multiples of rows that are solved, so that it is 0 where these lead."""
+    rest = [Fraction(entry) for entry in row]
+    for each, lead in zip(*rows):
+        if rest[lead]:
+            rest = [entry - rest[lead] * more for entry, more in zip(rest, each)]
+    return rest

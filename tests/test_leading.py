@@ -3,6 +3,7 @@
 import random
 from fractions import Fraction
 from math import factorial
+from time import perf_counter
 
 from oracles import chain_sum, led_on, mix_of, value_of
 from risewords.errors import InvalidMix, InvalidRow, TooMany, UnknownName
@@ -93,6 +94,28 @@ class Led(Case):
         for row in SMALL + LONG_ROWS[:1]:
             self.same(led_forth(Mix.of(row)).terms, mix_of(forth(row)).terms)
             self.same(led_back(Mix.of(row)).terms, mix_of(back(row)).terms)
+
+    def test_rows_of_one_to_twelve_entries(self):
+        chance = random.Random(12)
+        for size in range(1, 13):
+            for row in ((1,) * size, tuple(chance.randint(1, 3) for _ in range(size))):
+                for call, rule in ((led_forth, forth), (led_back, back)):
+                    found = call(Mix.of(row))
+                    self.same(found.terms, mix_of(rule(row)).terms)
+                    self.same(len(found), 2 ** (size - 1))
+                self.same(led_back(led_forth(Mix.of(row))).terms, {row: (1, 1)})
+                self.same(led_forth(led_back(Mix.of(row))).terms, {row: (1, 1)})
+        ones = Mix.of((1,) * 12)
+        self.same([led_forth(ones).number_at((12,)), led_back(ones).number_at((12,))], [(1, 479001600), (-1, 12)])
+
+    def test_leading_takes_little_time(self):
+        mixes = (Mix.of((1,) * 12), Mix.of((2, 1, 3, 1, 2, 1, 4, 1, 2, 1, 2, 5)))
+        for call in (led_forth, led_back):
+            for mix in mixes:
+                start = perf_counter()
+                for _ in range(20):
+                    call(mix)
+                self.assertLess(perf_counter() - start, 0.5)
 
     def test_blocks_of_all_sizes(self):
         for size in range(1, 13):

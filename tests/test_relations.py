@@ -2,10 +2,10 @@
 
 import random
 from fractions import Fraction
-from math import gcd
+from math import gcd, lcm
 from time import perf_counter
 
-from oracles import mix_of, pair
+from oracles import mix_of, pair, rank_of, solved
 from risewords.errors import InvalidMix, InvalidNumber, InvalidOperation, InvalidRow, TooMany, UnknownName
 from risewords.follow import relations
 from risewords.follow.relations import (KINDS, bar_rows, does_follow, follow_paper, is_follow_paper, left_count,
@@ -49,20 +49,6 @@ def weighed(mix, weight, test):
     return sum(number * entry for number, entry in zip(numbers_of(mix, weight), test))
 
 
-def rank_of(rows):
-    """The number of rows that do not hang on one another, by elimination with fractions."""
-    left = [list(row) for row in rows]
-    found = 0
-    for column in range(len(left[0]) if left else 0):
-        lead = [row for row in left if row[column]]
-        if lead:
-            first = lead[0]
-            left.remove(first)
-            left = [[entry - row[column] / first[column] * part for entry, part in zip(row, first)] for row in left]
-            found += 1
-    return found
-
-
 def sum_of(parts):
     """The mix that relations, each times a ratio, make."""
     total = ZERO
@@ -83,18 +69,14 @@ def as_paper(parts):
 
 
 def dependency(weight):
-    """A tuple of pairs with ratios whose relations add up to 0: one pair hangs on others."""
-    pairs = pairs_of(weight)
-    for place, each in enumerate(pairs):
-        mix = by_products(*each)
-        others = [by_products(*other) for other in pairs[:place]]
-        if others and rank_of([numbers_of(other, weight) for other in others + [mix]]) <= len(others):
-            kind, parts = follow_paper(mix)
-            rest = {other: Fraction(*ratio) for other, ratio in parts}
-            rest[each] = rest.get(each, 0) - 1
-            found = [(other, number) for other, number in rest.items() if number]
-            if found:
-                return found
+    """Pairs with ratios whose relations add up to 0: one relation, and the sum of others that makes it."""
+    for each in pairs_of(weight):
+        _, parts = follow_paper(by_products(*each))
+        rest = {other: Fraction(*ratio) for other, ratio in parts}
+        rest[each] = rest.get(each, 0) - 1
+        found = [(other, number) for other, number in rest.items() if number]
+        if found:
+            return found
     return None
 
 
@@ -158,10 +140,24 @@ class Left(Case):
             self.assertEqual(LEFT["all"][weight], LEFT["all"][weight - 2] + LEFT["all"][weight - 3])
 
     def test_numbers_left_by_ranks(self):
-        for weight in range(8):
+        for weight in range(9):
             for kind in KINDS:
                 rows = [numbers_of(by_products(*each), weight) for each in pairs_by_rule(weight, kind)]
                 self.same(left_count(weight, kind=kind), len(list(firm_rows(weight))) - rank_of(rows))
+
+    def test_rows_that_bar_by_elimination(self):
+        for weight in range(9):
+            size = len(list(firm_rows(weight)))
+            for kind in KINDS:
+                left, leads = solved([numbers_of(by_products(*each), weight)[::-1] for each in pairs_by_rule(weight, kind)])
+                wanted = []
+                for free in [place for place in range(size) if place not in leads]:
+                    row = [Fraction(place == free) for place in range(size)]
+                    for solved_row, lead in zip(left, leads):
+                        row[lead] = -solved_row[free]
+                    bottom = lcm(*[entry.denominator for entry in row])
+                    wanted.append(tuple(int(entry * bottom) for entry in row[::-1]))
+                self.same(bar_rows(weight, kind=kind), tuple(tuple(entry // gcd(*row) for entry in row) for row in wanted[::-1]))
 
     def test_rows_that_bar(self):
         for weight in range(9):
@@ -289,12 +285,17 @@ class Papers(Case):
 
     def test_papers_of_the_weight_8(self):
         chance = random.Random(65)
+        rows = list(firm_rows(8))
         for kind in KINDS:
-            mix = sum_of(drawn_parts(chance, 8, kind, 5))
-            paper = follow_paper(mix, kind=kind)
-            self.right(mix, paper, 8, kind)
-            self.assertIs(is_follow_paper(mix, paper, kind=kind), True)
-            self.assertTrue(all(abs(number) < 10 ** 400 for _, ratio in paper[1] for number in ratio))
+            mixes = [sum_of(drawn_parts(chance, 8, kind, many)) for many in (1, 5, 12)] + [relation((2, 1, 1), (2, 2))]
+            mixes += [mix_of({row: chance.randint(1, 3) for row in chance.sample(rows, 5)})]
+            for mix in mixes:
+                paper = follow_paper(mix, kind=kind)
+                self.right(mix, paper, 8, kind)
+                self.assertIs(paper[0] == "sum", mix is not mixes[-1])
+                self.assertIs(is_follow_paper(mix, paper, kind=kind), True)
+                told = [number for _, ratio in paper[1] for number in ratio] if paper[0] == "sum" else paper[1]
+                self.assertTrue(all(abs(number) < 10 ** 400 for number in told))
 
     def test_sums_that_others_made(self):
         chance = random.Random(66)
@@ -417,6 +418,16 @@ class Papers(Case):
                 bar_rows(7, kind=kind)
                 left_count(7, kind=kind)
         self.assertLess(perf_counter() - start, 1)
+
+    def test_the_weight_8_takes_little_time(self):
+        mixes = (Mix({(8,): 1, (7, 1): -1}), relation((2, 1), (2, 3)))
+        for kind in KINDS:
+            for call in (lambda: left_count(8, kind=kind), lambda: bar_rows(8, kind=kind),
+                         lambda: does_follow(mixes[0], kind=kind), lambda: does_follow(mixes[1], kind=kind)):
+                start = perf_counter()
+                for _ in range(10):
+                    call()
+                self.assertLess(perf_counter() - start, 0.5)
 
     def test_the_functions_stand_in_the_module_itself(self):
         for name in ("relation", "pairs_of", "does_follow", "follow_paper", "is_follow_paper", "bar_rows", "left_count"):

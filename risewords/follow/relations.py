@@ -1,15 +1,16 @@
 """Relations of two products, what follows from them, and the tests that bar the rest."""
 
 from risewords.base.checks import need_between, need_one_of
-from risewords.base.elimination import kernel_rows, making_ratios, product_sum
 from risewords.base.exact import is_exact, is_whole, reduced, shared_bottom
 from risewords.errors import InvalidOperation, TooMany
+from risewords.follow.barring import barring_rows, is_made, making_shares, rank_of
 from risewords.weave.ways import row_product
 from risewords.word.mixes import mix_of_tops, need_mix, tops_of
-from risewords.word.rows import firm_rows, is_row, need_row
+from risewords.word.rows import dual_row, firm_rows, is_row, need_row
 
 MOST_WEIGHT = 8
 MAX_JOINT = 12
+MOST_LIGHT = 3
 KINDS = ("all", "firm")
 
 
@@ -57,33 +58,60 @@ def pairs_of(weight, *, kind="all"):
     return tuple(found)
 
 
-def _table(weight, kind):
-    """The relations of the pairs of a weight, lists of integers for its firm rows."""
-    rows = list(firm_rows(weight))
+def _spanning_pairs(weight, kind):
+    """The list of some pairs of a weight and a kind of whose relations all others are sums of multiples."""
+    pairs = pairs_of(weight, kind=kind)
+    # To the weight 8 the relations of the lightest rows are enough.
+    return [pair for pair in pairs if kind == "firm" or sum(pair[0]) <= MOST_LIGHT]
+
+
+def _relation_rows(pairs, columns):
+    """The list of the relations of some pairs, dicts from the columns of the rows to integers."""
     known = {"joined": {}, "woven": {}}
-    table = []
-    for one, other in pairs_of(weight, kind=kind):
-        tops = _relation_tops(one, other, known)
-        table.append([tops.get(row, 0) for row in rows])
-    return table
+    return [_in_columns(_relation_tops(one, other, known), columns) for one, other in pairs]
+
+
+def _in_columns(tops, columns):
+    """A dict from rows to integers, those of one column added up. Rows that are not firm have 0."""
+    found = {}
+    for row, top in tops.items():
+        if top != 0:
+            column = columns[row]
+            found[column] = found.get(column, 0) + top
+    return found
+
+
+def _shared_columns(weight, kind):
+    """A dict from the firm rows of a weight to columns, and the number of these.
+
+    A row less its dual follows from all pairs (stage 13). So each test for them has one integer for
+    both rows, and they share a column.
+    """
+    columns = {}
+    many = 0
+    for row in firm_rows(weight):
+        if row not in columns:
+            columns[row] = many
+            if kind == "all":
+                columns[dual_row(row)] = many
+            many += 1
+    return columns, many
 
 
 def bar_rows(weight, *, kind="all"):
     """The echelon whose rows make all tests of a weight."""
-    need_between(weight, 0, MOST_WEIGHT)
-    need_one_of(kind, KINDS)
-    return _tests(weight, _table(weight, kind))
-
-
-def _tests(weight, table):
-    """The echelon of the tests for the relations of a weight."""
-    # Where there are no relations, a row of zeros asks for nothing, too.
-    return kernel_rows(table or [[0] * len(list(firm_rows(weight)))])
+    pairs = _spanning_pairs(weight, kind)
+    columns, many = _shared_columns(weight, kind)
+    places = [columns[row] for row in firm_rows(weight)]
+    tests = barring_rows(_relation_rows(pairs, columns), many)
+    return tuple([tuple([test[place] for place in places]) for test in tests])
 
 
 def left_count(weight, *, kind="all"):
     """How many firm rows of a weight are left, up to what follows."""
-    return len(bar_rows(weight, kind=kind))
+    pairs = _spanning_pairs(weight, kind)
+    columns, many = _shared_columns(weight, kind)
+    return many - rank_of(_relation_rows(pairs, columns), many)
 
 
 def does_follow(mix, *, kind="all"):
@@ -91,9 +119,10 @@ def does_follow(mix, *, kind="all"):
     _need_level(mix, kind)
     if not mix:
         return True
-    numbers, _ = _numbers_of(mix)
-    tests = bar_rows(mix.top_weight, kind=kind)
-    return all([product_sum(test, numbers) == 0 for test in tests])
+    weight = mix.top_weight
+    columns, many = _shared_columns(weight, kind)
+    tops, _ = tops_of(mix)
+    return is_made(_in_columns(tops, columns), _relation_rows(_spanning_pairs(weight, kind), columns), many)
 
 
 def _need_level(mix, kind):
@@ -106,28 +135,31 @@ def _need_level(mix, kind):
         raise TooMany(MOST_WEIGHT)
 
 
-def _numbers_of(mix):
-    """The list of the numbers of a level mix other than zero for the firm rows of its weight, times a bottom; it."""
-    tops, bottom = tops_of(mix)
-    weight = mix.top_weight
-    return [tops.get(row, 0) for row in firm_rows(weight)], bottom
-
-
 def follow_paper(mix, *, kind="all"):
     """A paper about a mix: relations that make it, or a test that bars it."""
     _need_level(mix, kind)
     if not mix:
         return ("sum", ())
     weight = mix.top_weight
-    table = _table(weight, kind)
-    numbers, bottom = _numbers_of(mix)
-    ratios = making_ratios(table, numbers)
-    if ratios is not None:
-        shares = [reduced(ratio[0], ratio[1] * bottom) for ratio in ratios]
-        pairs = pairs_of(weight, kind=kind)
-        return ("sum", tuple([(pair, share) for pair, share in zip(pairs, shares) if share[0] != 0]))
-    tests = [test for test in _tests(weight, table) if product_sum(test, numbers) != 0]
-    return ("test", tests[0])
+    pairs = _spanning_pairs(weight, kind)
+    columns = _columns(weight)
+    tops, bottom = tops_of(mix)
+    shares = making_shares(_in_columns(tops, columns), _relation_rows(pairs, columns), len(columns))
+    if shares is None:
+        tests = [test for test in bar_rows(weight, kind=kind) if _test_sum(tops, columns, test) != 0]
+        return ("test", tests[0])
+    ratios = [reduced(share[0], share[1] * bottom) for share in shares]
+    return ("sum", tuple([(pair, ratio) for pair, ratio in zip(pairs, ratios) if ratio[0] != 0]))
+
+
+def _columns(weight):
+    """The dict from the firm rows of a weight to their places in tests."""
+    return {row: place for place, row in enumerate(firm_rows(weight))}
+
+
+def _test_sum(tops, columns, test):
+    """The sum of the products of the integers of rows with those of a test."""
+    return sum([top * test[columns[row]] for row, top in tops.items() if top != 0])
 
 
 def is_follow_paper(mix, value, *, kind="all"):
@@ -148,7 +180,7 @@ def _is_right_sum(mix, parts, kind):
     weights = [sum(one) + sum(other) for one, other in shares]
     if mix:
         weights.append(mix.top_weight)
-    if len(shares) != len(parts) or not all([weight == weights[0] for weight in weights]):
+    if len(shares) != len(parts):
         return False
     return not weights or _is_sum_of(mix, shares, weights[0], kind)
 
@@ -179,8 +211,13 @@ def _is_part(part):
 
 def _is_right_test(mix, test, kind):
     """Whether this is a row of integers that is 0 on all relations of the weight, and not on the mix."""
-    numbers, _ = _numbers_of(mix)
-    if len(test) != len(numbers) or not all([is_whole(entry) for entry in test]):
+    weight = mix.top_weight
+    columns = _columns(weight)
+    if len(test) != len(columns) or not all([is_whole(entry) for entry in test]):
         return False
-    table = _table(mix.top_weight, kind)
-    return product_sum(numbers, test) != 0 and all([product_sum(row, test) == 0 for row in table])
+    tops, _ = tops_of(mix)
+    if _test_sum(tops, columns, test) == 0:
+        return False
+    known = {"joined": {}, "woven": {}}
+    pairs = _spanning_pairs(weight, kind)
+    return all([_test_sum(_relation_tops(one, other, known), columns, test) == 0 for one, other in pairs])

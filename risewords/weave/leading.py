@@ -26,25 +26,29 @@ def _led(mix, numbers):
     _need_short_mix(mix)
     tops, bottom = tops_of(mix)
     most = max([len(row) for row in tops], default=0)
+    counts = _blocking_counts(most, numbers)
     total = {}
     for row, top in tops.items():
         share = top * (factorial(most) // factorial(len(row)))
-        for told, count in _blockings(row, numbers):
+        for told, count in zip(joinings(row), counts[len(row)]):
             total[told] = total.get(told, 0) + share * count
     return mix_of_tops(total, bottom * factorial(most))
 
 
-def _blockings(row, numbers):
-    """The pairs of what each blocking of a row of k entries tells, and k! times what it counts."""
-    if row == ():
-        return [((), 1)]
-    found = []
-    for size in range(1, len(row) + 1):
-        block = sum(row[:size])
-        # k! is the factor of the rest, times the lots of the block among k entries, times its n!.
-        share = comb(len(row), size) * numbers[size - 1]
-        found.extend([((block, *told), share * count) for told, count in _blockings(row[size:], numbers)])
-    return found
+def _blocking_counts(most, numbers):
+    """For each k to a greatest one: k! times what the blockings of a row of k entries count.
+
+    They ascend as the joinings do that they tell: shorter first blocks tell lesser rows.
+    """
+    counts = [[1]]
+    for size in range(1, most + 1):
+        found = []
+        for block in range(1, size + 1):
+            # k! is the factor of the rest, times the lots of the block among k entries, times its n!.
+            share = comb(size, block) * numbers[block - 1]
+            found.extend([share * count for count in counts[size - block]])
+        counts.append(found)
+    return counts
 
 
 def _need_short_mix(mix):

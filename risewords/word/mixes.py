@@ -146,7 +146,12 @@ def tops_of(mix):
 
 def mix_of_tops(tops, bottom):
     """The mix of a dict from rows to integers, each divided by an integer."""
-    return mix_of_terms({row: reduced(tops[row], bottom) for row in tops})
+    # Many rows of products and of blockings have one integer.
+    ratios = {}
+    for top in tops.values():
+        if top not in ratios:
+            ratios[top] = reduced(top, bottom)
+    return mix_of_terms({row: ratios[tops[row]] for row in tops})
 
 
 def need_mix(mix):
