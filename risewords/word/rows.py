@@ -43,12 +43,15 @@ def word_of(row):
     return "".join(["x" * (entry - 1) + "y" for entry in row])
 
 
+def is_word(value, most):
+    """Whether the value is a string of letters x and y, at most so many."""
+    return isinstance(value, str) and len(value) <= most and all([letter in OTHER_LETTER for letter in value])
+
+
 def row_of(word):
     """The row with a word."""
-    if not isinstance(word, str) or len(word) > MAX_WEIGHT:
-        raise InvalidOperation("a word is a string of at most 40 letters")
-    if not all([letter in OTHER_LETTER for letter in word]) or (word != "" and word[-1] != "y"):
-        raise InvalidOperation("the word of a row consists of x and y, and is empty or ends in y")
+    if not is_word(word, MAX_WEIGHT) or (word != "" and word[-1] != "y"):
+        raise InvalidOperation("the word of a row has at most 40 letters x and y, and is empty or ends in y")
     return tuple([len(run) + 1 for run in word.split("y")[:-1]])
 
 

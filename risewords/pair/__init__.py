@@ -1,0 +1,1 @@
+"""Rows of two entries, and polynomials that go round."""

@@ -1,0 +1,1 @@
+"""Letters that do not commute."""
