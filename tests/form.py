@@ -25,7 +25,7 @@ Protocol ABC ABCMeta namedtuple NamedTuple TypedDict TYPE_CHECKING abstractmetho
 _cold _tuplegetter _outside _record _written_out _member_names""".split()
 PREFIXES = "_wall _pe_ _dcw_ _enum_ _cm_ _twin_re_ _lay_ _law_ _stub_ _sre _WallAttr".split()
 STATEMENTS = (ast.Assign, ast.AugAssign, ast.If, ast.While, ast.For, ast.Return, ast.Break, ast.Continue, ast.Pass,
-              ast.Raise, ast.Assert, ast.Delete, ast.Expr, ast.FunctionDef, ast.ClassDef, ast.ImportFrom)
+              ast.Raise, ast.Assert, ast.Delete, ast.Expr, ast.FunctionDef, ast.ClassDef, ast.ImportFrom, ast.Try)
 CONSUMERS = ("list", "tuple", "dict", "sorted", "sum", "min", "max", "any", "all", "enumerate", "zip")
 VIEWS = ("zip", "enumerate", "reversed", "range")
 FILE_NAMES = re.compile(r"(?!(law_|test|site|conftest|usercustomize|enum\.|type\.|typing\.|map\.))[a-z][a-z0-9_]*\.py")
@@ -142,6 +142,18 @@ class Package:
                 self.say(file, node, "L5 operators may not call this")
             if isinstance(node, ast.For) and isinstance(node.iter, ast.Name):
                 self.loop(file, node)
+            if isinstance(node, ast.Try):
+                self.handlers(file, node)
+
+    def handlers(self, file, node):
+        """L19, narrower: only own errors are caught. L6: `finally` assigns names to attributes, nothing else."""
+        for handler in node.handlers:
+            if file.imports.get(getattr(handler.type, "id", "")) != "risewords.errors" or handler.name:
+                self.say(file, handler, "L19 except")
+        for part in node.finalbody:
+            plain = isinstance(part, ast.Assign) and isinstance(part.value, ast.Name) and len(part.targets) == 1
+            if not plain or not isinstance(part.targets[0], ast.Attribute):
+                self.say(file, part, "L6 finally")
 
     def loop(self, file, node):
         """L23: what is iterated over is not changed in the loop."""

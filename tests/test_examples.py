@@ -22,6 +22,14 @@ MODULES = {
     "polynomials": ("whole.polynomials",),
     "relations": ("word.mixes", "follow.relations"),
     "families": ("follow.families",),
+    "bases": ("word.mixes", "follow.bases"),
+    "pairs": ("pair.pairs",),
+    "rounds": ("pair.rounds",),
+    "letters": ("side.letters",),
+    "orders": ("order.orders",),
+    "values": ("word.mixes", "value.values"),
+    "desk": ("word.mixes", "desk.desk"),
+    "strings": ("word.mixes", "text.strings"),
 }
 
 

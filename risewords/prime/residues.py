@@ -13,7 +13,7 @@ from risewords.word.rows import MAX_WEIGHT, need_row
 MAX_PRIME = 499
 
 
-def _is_prime(value):
+def is_prime(value):
     """Whether the value is a prime number from 2 to 499."""
     if not is_whole(value) or value < 2 or value > MAX_PRIME:
         return False
@@ -22,7 +22,7 @@ def _is_prime(value):
 
 def _need_prime(prime):
     """Refuses all but the prime numbers from 2 to 499."""
-    if not _is_prime(prime):
+    if not is_prime(prime):
         raise InvalidNumber(prime)
 
 
@@ -129,7 +129,7 @@ def choose_rest(prime):
 def holds_for(mix, primes):
     """Whether the rest of the cut sum of a mix is 0 for each prime of a tuple."""
     need_mix(mix)
-    if not isinstance(primes, tuple) or not all([_is_prime(prime) for prime in primes]):
+    if not isinstance(primes, tuple) or not all([is_prime(prime) for prime in primes]):
         raise InvalidOperation("a tuple of prime numbers from 2 to 499 is needed")
     if not all([low < high for low, high in zip(primes, primes[1:])]):
         raise InvalidOperation("the prime numbers are to ascend")
@@ -142,5 +142,5 @@ def each_rest(row):
     """Yields the pairs of a prime and the rest of the cut sum of a row, for all primes to 499."""
     need_row(row)
     for prime in range(2, MAX_PRIME + 1):
-        if _is_prime(prime):
+        if is_prime(prime):
             yield (prime, _rows_rest(prime, {row: 1}, True))

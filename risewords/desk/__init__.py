@@ -1,0 +1,1 @@
+"""A desk that keeps mixes and claims."""

@@ -1,0 +1,1 @@
+"""Orders with two colours."""

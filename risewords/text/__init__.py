@@ -1,0 +1,1 @@
+"""Texts that tell values."""

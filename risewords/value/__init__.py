@@ -1,0 +1,1 @@
+"""Values of firm rows, within bounds."""
