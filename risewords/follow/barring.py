@@ -1,52 +1,53 @@
-"""Sums of multiples of rows of integers, and the rows that bar all others. Nothing that is passed is checked here.
+"""Sums of multiples of relations, and the rows that bar all others. Nothing that is passed is checked here.
 
 Rows are passed as dicts from columns to integers. In an elimination each row is one integer, its
-entries being the digits in a base of so many bits, perhaps below 0: so Python adds up whole rows.
+entries being the digits in a great base, perhaps below 0: so Python adds up whole rows at once.
 """
 
 from risewords.base.elimination import primitive
 from risewords.base.exact import reduced
 
+# A digit is a determinant of a part of the rows. Those of relations to the weight 8 have at most 72 bits.
+BITS = 96
+HALF = 1 << 95
+MOST = (1 << 96) - 1
+
 
 def is_made(row, makers, width):
-    """Whether a row is a sum of multiples of others."""
-    bits = _bits_for([*makers, row])
-    number, _ = _cleared_by(_packed(row, bits), _steps_of(makers, bits, 0, width), bits)
-    return number == 0
+    """Whether a row is a sum of multiples of relations."""
+    left, _ = _cleared_by(row, _steps_of(makers, 0, width), width)
+    return all([entry == 0 for entry in left])
 
 
 def rank_of(makers, width):
-    """How many of some rows do not hang on one another."""
-    return len(_steps_of(makers, _bits_for(makers), 0, width))
+    """How many of some relations do not hang on one another."""
+    return len(_steps_of(makers, 0, width))
 
 
 def making_shares(row, makers, width):
-    """The list of ratios with which other rows, each times its own, add up to a row, or None."""
+    """The list of ratios with which relations, each times its own, add up to a row, or None."""
     many = len(makers)
     marked = [{**_moved(maker, many), at: 1} for at, maker in enumerate(makers)]
-    wanted = _moved(row, many)
-    bits = _bits_for([*marked, wanted])
-    number, factor = _cleared_by(_packed(wanted, bits), _steps_of(marked, bits, many, many + width), bits)
-    if _top_digit(number, bits, many) != 0:
+    left, factor = _cleared_by(_moved(row, many), _steps_of(marked, many, many + width), many + width)
+    if any([entry != 0 for entry in left[many:]]):
         return None
-    # What is left are the marks: of each of the other rows as often as it was added.
-    return [reduced(-share, factor) for share in _unpacked(number, _halves(bits, many), bits, many)]
+    # What is left are the marks: of each relation as often as it was added.
+    return [reduced(-share, factor) for share in left[:many]]
 
 
 def barring_rows(makers, width):
-    """The echelon of all rows whose products with each of some rows add up to 0."""
-    bits = _bits_for(makers)
-    steps = _steps_of(makers, bits, 0, width)
+    """The echelon of all rows whose products with each of some relations add up to 0."""
+    steps = _steps_of(makers, 0, width)
+    halves = _halves(width)
     leads = {column: True for column, _, _ in steps}
     free = [column for column in range(width) if column not in leads]
     scale = steps[-1][2] if steps else 1
     # For each column its entries in all rows that are asked for, one for each free column, as digits.
-    entries = {column: scale << bits * at for at, column in enumerate(free)}
-    halves = _halves(bits, width)
+    entries = {column: scale << BITS * at for at, column in enumerate(free)}
     for column, pivot, lead in steps[::-1]:
-        others = _unpacked(pivot, halves, bits, column)
+        others = _unpacked(pivot, halves, column)
         entries[column] = -sum([other * entries[at] for at, other in enumerate(others) if other != 0]) // lead
-    solved = {column: _unpacked(entries[column], halves, bits, len(free)) for column in leads}
+    solved = {column: _unpacked(entries[column], halves, len(free)) for column in leads}
     found = []
     for at, column in enumerate(free):
         row = [solved[place][at] if place in solved else 0 for place in range(width)]
@@ -60,51 +61,33 @@ def _moved(row, many):
     return {many + column: entry for column, entry in row.items()}
 
 
-def _bits_for(rows):
-    """Bits enough for the digits of each elimination in some rows.
-
-    Each digit is a determinant of a part of the rows, so it is at most the product of their lengths.
-    """
-    product = 1
-    for row in rows:
-        product = product * max(1, sum([entry * entry for entry in row.values()]))
-    return 2 + (product.bit_length() + 1) // 2
-
-
-def _packed(row, bits):
+def _packed(row):
     """The integer of a row."""
-    return sum([entry << bits * column for column, entry in row.items()])
+    return sum([entry << BITS * column for column, entry in row.items()])
 
 
-def _halves(bits, many):
+def _halves(many):
     """The integer of a row of so many entries, each of them half of the base."""
-    return (1 << bits - 1) * (((1 << bits * many) - 1) // ((1 << bits) - 1))
+    return HALF * (((1 << BITS * many) - 1) // MOST)
 
 
-def _unpacked(number, halves, bits, many):
+def _unpacked(number, halves, many):
     """The list of the entries of the first columns, so many of them; the halves are for as many or more."""
-    half, most = 1 << bits - 1, (1 << bits) - 1
     # With half of the base added to each of the digits, none of them is below 0.
     raised = number + halves
-    return [(raised >> bits * column & most) - half for column in range(many)]
+    return [(raised >> BITS * column & MOST) - HALF for column in range(many)]
 
 
-def _top_digit(number, bits, column):
-    """The entry of a column behind which there are no others."""
-    shift = bits * column
-    return (number + (1 << shift >> 1)) >> shift
-
-
-def _steps_of(rows, bits, low, high):
+def _steps_of(rows, low, high):
     """A list of (column, row, lead): rows with the same sums of multiples, each of them 0 behind its lead.
 
     The leads are above 0, in columns from `high` less 1 down to `low`. Lower columns are taken along.
     """
-    left = [_packed(row, bits) for row in rows]
+    left = [_packed(row) for row in rows]
     steps = []
     former = 1
     for column in range(high - 1, low - 1, -1):
-        shift = bits * column
+        shift = BITS * column
         half = 1 << shift >> 1
         heads = [number + half >> shift for number in left]
         sizes = [abs(head) for head in heads if head != 0]
@@ -126,10 +109,19 @@ def _cleared(number, head, lead, pivot, former):
     return (lead * number - head * pivot) // former
 
 
-def _cleared_by(number, steps, bits):
-    """A further row with 0 in the columns of all steps, and the integer by which it was multiplied."""
+def _cleared_by(row, steps, width):
+    """The entries of a further row with 0 in the columns of all steps, and the integer that multiplied it.
+
+    They are kept one by one: this row can have far longer integers than relations have.
+    """
+    halves = _halves(width)
+    left = [row.get(column, 0) for column in range(width)]
     former = 1
     for column, pivot, lead in steps:
-        number = _cleared(number, _top_digit(number, bits, column), lead, pivot, former)
-        former = lead
-    return number, former
+        head = left[column]
+        # Without a head it needs no further multiple, either.
+        if head != 0:
+            others = _unpacked(pivot, halves, width)
+            left = [_cleared(entry, head, lead, other, former) for entry, other in zip(left, others)]
+            former = lead
+    return left, former

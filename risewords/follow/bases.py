@@ -50,12 +50,13 @@ def coordinates(mix):
         raise TooMany(MAX_SOLVED)
     told = {}
     for part in parts_of(mix):
-        told.update(_part_coordinates(part))
+        for row, ratio in _part_coordinates(part):
+            told[row] = ratio
     return {row: told[row] for row in sorted(told)}
 
 
 def _part_coordinates(part):
-    """The coordinates of a firm mix of one weight: each test finds the same in them as in the mix."""
+    """The pairs of a base row and a ratio for a firm mix of one weight: each test finds the same in both."""
     tests = bar_rows(part.top_weight)
     rows = list(firm_rows(part.top_weight))
     tops, bottom = tops_of(part)
@@ -63,7 +64,7 @@ def _part_coordinates(part):
     found = base_rows(part.top_weight)
     columns = [[test[rows.index(row)] for test in tests] for row in found]
     ratios = making_ratios(columns, [product_sum(test, numbers) for test in tests])
-    return {row: reduced(ratio[0], ratio[1] * bottom) for row, ratio in zip(found, ratios) if ratio[0] != 0}
+    return [(row, reduced(ratio[0], ratio[1] * bottom)) for row, ratio in zip(found, ratios) if ratio[0] != 0]
 
 
 def mix_of_coordinates(told):

@@ -11,6 +11,7 @@ from risewords.word.rows import dual_row, firm_rows, is_row, need_row
 MOST_WEIGHT = 8
 MAX_JOINT = 12
 MOST_LIGHT = 3
+LIGHTEST = ((1,), (2,), (3,))
 KINDS = ("all", "firm")
 
 
@@ -65,6 +66,15 @@ def _spanning_pairs(weight, kind):
     return [pair for pair in pairs if kind == "firm" or sum(pair[0]) <= MOST_LIGHT]
 
 
+def _testing_pairs(weight, kind):
+    """The list of some pairs whose relations, where rows and their duals share columns, are enough."""
+    pairs = _spanning_pairs(weight, kind)
+    if kind == "firm":
+        return pairs
+    # Of (3) and its dual one is enough, and (1) has one relation with a row and with its dual.
+    return [pair for pair in pairs if pair[0] in LIGHTEST and (pair[0] != (1,) or pair[1] <= dual_row(pair[1]))]
+
+
 def _relation_rows(pairs, columns):
     """The list of the relations of some pairs, dicts from the columns of the rows to integers."""
     known = {"joined": {}, "woven": {}}
@@ -100,7 +110,7 @@ def _shared_columns(weight, kind):
 
 def bar_rows(weight, *, kind="all"):
     """The echelon whose rows make all tests of a weight."""
-    pairs = _spanning_pairs(weight, kind)
+    pairs = _testing_pairs(weight, kind)
     columns, many = _shared_columns(weight, kind)
     places = [columns[row] for row in firm_rows(weight)]
     tests = barring_rows(_relation_rows(pairs, columns), many)
@@ -109,7 +119,7 @@ def bar_rows(weight, *, kind="all"):
 
 def left_count(weight, *, kind="all"):
     """How many firm rows of a weight are left, up to what follows."""
-    pairs = _spanning_pairs(weight, kind)
+    pairs = _testing_pairs(weight, kind)
     columns, many = _shared_columns(weight, kind)
     return many - rank_of(_relation_rows(pairs, columns), many)
 
@@ -122,7 +132,7 @@ def does_follow(mix, *, kind="all"):
     weight = mix.top_weight
     columns, many = _shared_columns(weight, kind)
     tops, _ = tops_of(mix)
-    return is_made(_in_columns(tops, columns), _relation_rows(_spanning_pairs(weight, kind), columns), many)
+    return is_made(_in_columns(tops, columns), _relation_rows(_testing_pairs(weight, kind), columns), many)
 
 
 def _need_level(mix, kind):

@@ -111,7 +111,7 @@ def value_text(row, digits):
         low, high = _cut_bounds(row, bits, scale)
     text = str(low).zfill(digits + 1)
     whole = len(text) - digits
-    return f"{text[:whole]}.{text[whole:]}" if digits > 0 else text
+    return text[:whole] + "." + text[whole:] if digits > 0 else text
 
 
 def _cut_bounds(row, bits, scale):
