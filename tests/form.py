@@ -190,8 +190,10 @@ class Package:
                 if not (called.attr == "__init__"):
                     self.say(file, node, f"L25 .{called.attr}()")
             if isinstance(called, ast.Name):
-                if called.id in self.generators and not self.at_once(file, node):
-                    self.say(file, node, f"L23 {called.id} is not iterated at once")
+                if called.id in self.generators:
+                    plain = all(isinstance(part, (ast.Name, ast.Attribute, ast.Constant)) for part in node.args)
+                    if not plain or not self.at_once(file, node):
+                        self.say(file, node, f"L23 {called.id} is not iterated at once, or takes more than names")
                 if (called.id in VIEWS or file.imports.get(called.id) == "itertools") and not self.at_once(file, node):
                     self.say(file, node, f"L23 {called.id}(..)")
             if isinstance(called, ast.Attribute) and called.attr in ("items", "keys", "values"):

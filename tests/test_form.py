@@ -45,7 +45,10 @@ class Form(unittest.TestCase):
                      "from itertools import accumulate\n\n\ndef f(a):\n    '''F.'''\n    return accumulate(a)\n",
                      "from itertools import product\n\n\ndef f(a):\n    '''F.'''\n    return list(product(a))\n",
                      "def f():\n    '''F.'''\n    yield 1\n\n\n"
-                     "def g():\n    '''G.'''\n    return f()\n", "def f(a):\n    '''F.'''\n    return a.encode()\n",
+                     "def g():\n    '''G.'''\n    return f()\n",
+                     "def f(a):\n    '''F.'''\n    yield a\n\n\n"
+                     "def g(a):\n    '''G.'''\n    return list(f(a + 1))\n",
+                     "def f(a):\n    '''F.'''\n    try:\n        a.append(1)\n    finally:\n        a.clear()\n", "def f(a):\n    '''F.'''\n    return a.encode()\n",
                      "def f(a):\n    '''F.'''\n    return a is f\n", "A = 0.5\n", "A = '%'\n", "A = 1\nA = 2\n",
                      "def f():\n    '''F.'''\n    return open('a')\n", "from math import floor\n",
                      "def f(a):\n    '''F.'''\n    for b in a:\n        a.append(b)\n", "print('a')\n",

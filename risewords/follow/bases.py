@@ -57,11 +57,11 @@ def coordinates(mix):
 
 def _part_coordinates(part):
     """The pairs of a base row and a ratio for a firm mix of one weight: each test finds the same in both."""
-    tests = bar_rows(part.top_weight)
-    rows = list(firm_rows(part.top_weight))
+    weight = part.top_weight
+    tests, found = bar_rows(weight), base_rows(weight)
+    rows = list(firm_rows(weight))
     tops, bottom = tops_of(part)
     numbers = [tops.get(row, 0) for row in rows]
-    found = base_rows(part.top_weight)
     columns = [[test[rows.index(row)] for test in tests] for row in found]
     ratios = making_ratios(columns, [product_sum(test, numbers) for test in tests])
     return [(row, reduced(ratio[0], ratio[1] * bottom)) for row, ratio in zip(found, ratios) if ratio[0] != 0]

@@ -15,7 +15,8 @@ def joined_sums(weight, numbers):
     known = {}
     found = []
     for light in range(1, weight // 2 + 1):
-        others = list(rows_of(weight - light))
+        heavy = weight - light
+        others = list(rows_of(heavy))
         for one in lyndon_rows(light):
             found.extend([_product_sums(row_product(one, other, "joined", known), numbers, size) for other in others])
     return found

@@ -91,7 +91,7 @@ def _bounds_of(terms, digits):
     for row, (top, bottom) in terms.items():
         ends = [top * bound for bound in row_bounds(row, bits)]
         low = low + min(ends) // bottom
-        high = high - -max(ends) // bottom
+        high = high - (-max(ends) // bottom)
     return low, high, bits
 
 
