@@ -2,8 +2,10 @@
 
 from risewords.base.checks import need_between
 from risewords.base.elimination import echelon, kernel_rows
-from risewords.base.exact import added, is_whole, multiplied, opposite, reduced, shared_bottom
+from risewords.base.exact import is_whole
 from risewords.base.ratios import is_ratio
+from risewords.base.terms import added_terms, filled_terms, multiplied_terms, opposite_terms
+from risewords.base.terms import terms_of_tops, tops_of_terms
 from risewords.errors import InvalidLetters, InvalidNumber, TooMany
 from risewords.side.bars import joined_sums
 from risewords.weave.lyndon import lyndon_rows
@@ -61,7 +63,7 @@ class Letters:
         return _sum_of(self, -other)
 
     def __neg__(self):
-        return _letters_of({word: opposite(ratio) for word, ratio in self._terms.items()})
+        return _letters_of(opposite_terms(self._terms))
 
     def __mul__(self, other):
         if isinstance(other, Letters):
@@ -70,8 +72,7 @@ class Letters:
             return NotImplemented
         if not is_number(other):
             raise InvalidNumber(other)
-        number = ratio_of(other)
-        return _letters_of({word: multiplied(ratio, number) for word, ratio in self._terms.items()})
+        return _letters_of(multiplied_terms(self._terms, ratio_of(other)))
 
     def __eq__(self, other):
         return isinstance(other, Letters) and self._terms == other._terms
@@ -102,37 +103,27 @@ def _are_terms(terms):
 def _letters_of(terms):
     """The letters of a dict from words of one length to ratios of any size; those of 0 are left out."""
     made = Letters({})
-    made._terms = {word: terms[word] for word in sorted(terms) if terms[word][0] != 0}
+    made._terms = filled_terms(terms)
     return made
 
 
 def _letters_of_tops(tops, bottom):
     """The letters of a dict from words of one length to integers, each divided by an integer."""
-    return _letters_of({word: reduced(top, bottom) for word, top in tops.items()})
-
-
-def _tops_of(letters):
-    """A dict from the words to integers, and the integer by which all of them are to be divided."""
-    terms = letters.terms
-    bottom = shared_bottom(list(terms.values()))
-    return {word: ratio[0] * (bottom // ratio[1]) for word, ratio in terms.items()}, bottom
+    return _letters_of(terms_of_tops(tops, bottom))
 
 
 def _sum_of(one, other):
     """The sum of two letters of one weight, or of any if one of them is zero."""
     if not one.is_zero and not other.is_zero and one.weight != other.weight:
         raise InvalidLetters("only letters of one weight can be added up")
-    total = {word: ratio for word, ratio in one.terms.items()}
-    for word, ratio in other.terms.items():
-        total[word] = added(total[word], ratio) if word in total else ratio
-    return _letters_of(total)
+    return _letters_of(added_terms(one.terms, other.terms))
 
 
 def _product_of(one, other):
     """The words of the one letters ahead of those of the other ones."""
     _need_short(one, other)
-    left, bottom = _tops_of(one)
-    right, divisor = _tops_of(other)
+    left, bottom = tops_of_terms(one.terms)
+    right, divisor = tops_of_terms(other.terms)
     tops = {front + rear: top * count for front, top in left.items() for rear, count in right.items()}
     return _letters_of_tops(tops, bottom * divisor)
 
@@ -165,8 +156,8 @@ def bracket(one, other):
 def acted(one, other):
     """The second letters, acted on by the first ones."""
     _need_both(one, other)
-    left, bottom = _tops_of(one)
-    right, divisor = _tops_of(other)
+    left, bottom = tops_of_terms(one.terms)
+    right, divisor = tops_of_terms(other.terms)
     tops = {}
     for word, top in right.items():
         places = [place for place, letter in enumerate(word) if letter == "y"]
@@ -226,7 +217,7 @@ def is_lie(value):
     if value.is_zero:
         return True
     # Letters are Lie exactly if bracketing each word from its end multiplies them by their weight.
-    tops, _ = _tops_of(value)
+    tops, _ = tops_of_terms(value.terms)
     made = _bracketed(tops, value.weight)
     words = [*tops, *made]
     return all([made.get(word, 0) == value.weight * tops.get(word, 0) for word in words])
@@ -251,7 +242,7 @@ def bars_joined(letters):
         return True
     if letters.weight > MOST_BARRING:
         raise TooMany(MOST_BARRING)
-    tops, _ = _tops_of(letters)
+    tops, _ = tops_of_terms(letters.terms)
     return all([sums == [0] for sums in joined_sums(letters.weight, _row_numbers(letters.weight, [tops]))])
 
 

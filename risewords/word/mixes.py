@@ -1,8 +1,10 @@
 """Mixes: sums of rows, each multiplied by a ratio."""
 
 from risewords.base.checks import need_between
-from risewords.base.exact import added, is_whole, multiplied, opposite, reduced, shared_bottom, shared_divisor
+from risewords.base.exact import is_whole, reduced, shared_divisor
 from risewords.base.ratios import is_integer, is_ratio
+from risewords.base.terms import added_terms, filled_terms, multiplied_terms, opposite_terms
+from risewords.base.terms import terms_of_tops, tops_of_terms
 from risewords.errors import InvalidMix, InvalidNumber
 from risewords.word.rows import MAX_WEIGHT, is_row, need_row
 
@@ -58,22 +60,22 @@ class Mix:
     def __add__(self, other):
         if not isinstance(other, Mix):
             return NotImplemented
-        return mix_of_terms(_added_terms(self._terms, other._terms))
+        return mix_of_terms(added_terms(self._terms, other._terms))
 
     def __sub__(self, other):
         if not isinstance(other, Mix):
             return NotImplemented
-        return mix_of_terms(_added_terms(self._terms, _opposite_terms(other._terms)))
+        return mix_of_terms(added_terms(self._terms, opposite_terms(other._terms)))
 
     def __neg__(self):
-        return mix_of_terms(_opposite_terms(self._terms))
+        return mix_of_terms(opposite_terms(self._terms))
 
     def __mul__(self, other):
         if not is_whole(other) and not isinstance(other, tuple):
             return NotImplemented
         if not is_number(other):
             raise InvalidNumber(other)
-        return mix_of_terms(_multiplied_terms(self._terms, ratio_of(other)))
+        return mix_of_terms(multiplied_terms(self._terms, ratio_of(other)))
 
     def __eq__(self, other):
         return isinstance(other, Mix) and self._terms == other._terms
@@ -113,45 +115,21 @@ def _are_terms(terms):
     return all([is_row(row) and is_number(terms[row]) and ratio_of(terms[row])[0] != 0 for row in terms])
 
 
-def _added_terms(one, other):
-    """The sum of two dicts from rows to ratios; ratios of 0 can remain."""
-    total = {row: one[row] for row in one}
-    for row in other:
-        total[row] = added(total[row], other[row]) if row in total else other[row]
-    return total
-
-
-def _opposite_terms(terms):
-    """A dict from rows to ratios, with the other signs."""
-    return {row: opposite(terms[row]) for row in terms}
-
-
-def _multiplied_terms(terms, ratio):
-    """A dict from rows to ratios, each multiplied by a ratio."""
-    return {row: multiplied(terms[row], ratio) for row in terms}
-
-
 def mix_of_terms(terms):
     """The mix of a dict from rows to ratios of any size, as many as there are; those of 0 are left out."""
     made = Mix({})
-    made._terms = {row: terms[row] for row in sorted(terms) if terms[row][0] != 0}
+    made._terms = filled_terms(terms)
     return made
 
 
 def tops_of(mix):
     """A dict from the rows of a mix to integers, and the integer by which all of them are to be divided."""
-    bottom = shared_bottom([ratio for _, ratio in mix])
-    return {row: ratio[0] * (bottom // ratio[1]) for row, ratio in mix}, bottom
+    return tops_of_terms(mix.terms)
 
 
 def mix_of_tops(tops, bottom):
     """The mix of a dict from rows to integers, each divided by an integer."""
-    # Many rows of products and of blockings have one integer.
-    ratios = {}
-    for top in tops.values():
-        if top not in ratios:
-            ratios[top] = reduced(top, bottom)
-    return mix_of_terms({row: ratios[tops[row]] for row in tops})
+    return mix_of_terms(terms_of_tops(tops, bottom))
 
 
 def need_mix(mix):
@@ -189,7 +167,7 @@ def combined(pairs):
         raise InvalidMix("a tuple of at most 200 pairs of a mix and a number is needed")
     total = {}
     for mix, number in pairs:
-        total = _added_terms(total, (mix * number).terms)
+        total = added_terms(total, (mix * number).terms)
     return mix_of_terms(total)
 
 
